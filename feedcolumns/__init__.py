@@ -1,0 +1,1 @@
+"""Feedcolumns: columns of a sheet that are filled down for ever, for all inputs."""
