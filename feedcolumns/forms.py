@@ -60,6 +60,12 @@ def reduced(top, bottom):
     return [number // unit for number in least_top], [number // unit for number in least_bottom]
 
 
+def column_forms(sheet, name):
+    """Return the list of the forms of a column, one for each input."""
+    check_column(sheet, name)
+    return [column_form(sheet, name, source) for source in sheet.inputs]
+
+
 def first_powers(form, number):
     """Return the list of the first powers of a form, so many."""
     if number < 0:
@@ -73,11 +79,18 @@ def first_powers(form, number):
     return powers
 
 
-def _common_bottom(forms):
+def common_bottom(forms):
+    """Return the least common multiple, beginning with 1, of the bottoms of some forms."""
     common = [1]
     for top, bottom in forms:
         common = common_multiple(common, bottom)
     return common
+
+
+def top_over(form, common):
+    """Return the top of the same fraction over a multiple of the bottom of a form."""
+    top, bottom = form
+    return times(top, quotient(common, bottom))
 
 
 def _terms(name, numbers):
@@ -86,10 +99,9 @@ def _terms(name, numbers):
 
 def shortest_formula(sheet, name):
     """Return the formula of a column by itself and the inputs that has the fewest rows back."""
-    check_column(sheet, name)
-    forms = [column_form(sheet, name, source) for source in sheet.inputs]
-    common = _common_bottom(forms)
+    forms = column_forms(sheet, name)
+    common = common_bottom(forms)
     formula = _terms(name, minus([1], common))
-    for source, (top, bottom) in zip(list(sheet.inputs), forms):
-        formula.extend(_terms(source, times(top, quotient(common, bottom))))
+    for source, form in zip(list(sheet.inputs), forms):
+        formula.extend(_terms(source, top_over(form, common)))
     return formula

@@ -1,7 +1,17 @@
 """What the tests work out in ways of their own, to compare the package with."""
 
 import random
+import unittest
 from fractions import Fraction
+
+
+class Case(unittest.TestCase):
+    def raises(self, kind, value, call, *args, **named):
+        """Check that a call raises an error of just this class with this value."""
+        with self.assertRaises(kind) as told:
+            call(*args, **named)
+        self.assertIs(type(told.exception), kind)
+        self.assertEqual(told.exception.value, value)
 
 
 def walked(inputs, columns, name, entries, number):
@@ -85,3 +95,36 @@ def solvable(rows, wanted):
         rest = [row for row in rows if row is not pivot]
         rows = [[x - row[place] / pivot[place] * y for x, y in zip(row, pivot)] for row in rest]
     return all(row[-1] == 0 for row in rows)
+
+
+def divided(first, second):
+    """The first polynomial divided by the second one, which begins with 1 and leaves nothing."""
+    rest, numbers = list(first), []
+    while len(rest) >= len(second):
+        numbers.append(rest[0])
+        rest = [x - numbers[-1] * (second[k] if k < len(second) else 0) for k, x in enumerate(rest)][1:]
+    assert not any(rest)
+    return numbers
+
+
+def root_polynomial(number):
+    """The polynomial, beginning with 1, of the primitive N-th roots of 1: 1 - x ** N without the other roots."""
+    left = [1] + [0] * (number - 1) + [-1]
+    for part in range(1, number):
+        if number % part == 0:
+            left = divided(left, root_polynomial(part))
+    return left
+
+
+def rank(rows):
+    """How many of these rows of integers do not depend on the others."""
+    rows = [[Fraction(x) for x in row] for row in rows]
+    found = 0
+    while rows and rows[0]:
+        pivots = [row for row in rows if row[0] != 0]
+        if pivots:
+            found += 1
+            rows = [[x - row[0] / pivots[0][0] * y for x, y in zip(row, pivots[0])]
+                    for row in rows if row is not pivots[0]]
+        rows = [row[1:] for row in rows]
+    return found

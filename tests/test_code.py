@@ -9,6 +9,9 @@ INTERFACE = {
                "UnlikeInputs", "TooDeep", "NothingToUndo", "Unreadable"],
     "sheets": ["Sheet"],
     "forms": ["column_form", "reduced", "first_powers", "shortest_formula"],
+    "alike": ["are_alike", "parting", "classes", "relations"],
+    "memory": ["felt", "bound", "reaching"],
+    "growth": ["growth_of", "circles", "rest_of"],
 }
 
 
@@ -49,7 +52,7 @@ class CodeTest(unittest.TestCase):
                         self.assertLessEqual(part.end_lineno - part.lineno + 1, 40)
 
     def test_imports(self):
-        free = {("math", "gcd"), ("itertools", "zip_longest")}
+        free = {("math", "gcd"), ("math", "lcm"), ("itertools", "zip_longest")}
         for name, text in texts().items():
             for part in ast.walk(ast.parse(text)):
                 self.assertNotIsInstance(part, ast.Import)

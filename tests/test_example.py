@@ -9,9 +9,26 @@ FORMS = '''
 [['s', 'd', 't'], [1, 3, 6, 6, 6], [1, 3, 6, 5, 3], [1, 4, 10, 16, 22], ([1], [1, -1]), ([1, 1, 1], [1]), ([1], [1, -2, 1]), ([1, 1], [1]), [1, 2, 3, 4], [(1, 'a', 0), (1, 'a', 1), (1, 'a', 2)], [(2, 't', 1), (-1, 't', 2), (1, 'a', 0)]]
 '''
 
+ALIKE = '''
+>>> from feedcolumns.alike import are_alike, classes, parting, relations
+>>> from feedcolumns.memory import bound, felt, reaching
+>>> from feedcolumns.sheets import Sheet
+>>> sheet = Sheet("a", [("s", [(1, "s", 1), (1, "a", 0)]), ("d", [(1, "s", 0), (-1, "s", 3)]), ("e", [(-1, "e", 1), (1, "a", 0)]), ("r", [(1, "s", 0), (1, "e", 0)])])
+>>> other = Sheet("a", [("z", [(1, "a", 0), (1, "a", 1), (1, "a", 2)])])
+>>> [are_alike(sheet, "d", other, "z"), parting(sheet, "s", sheet, "d"), parting(sheet, "d", other, "z"), classes(sheet), relations(sheet), felt(sheet, "d"), felt(sheet, "s"), bound(sheet, "d", 5), reaching(sheet, "d", 5), bound(sheet, "s", 5)]
+[True, (3, 'a', 1), None, [['d'], ['e'], ['r'], ['s']], [[1, 0, 1, -1]], [[0, 1, 2]], [None], 15, [[5, 5, 5]], None]
+'''
+
+# of the example of growth and reading, what concerns growth
+GROWTH = '''
+>>> from feedcolumns.growth import circles, growth_of, rest_of
+>>> [growth_of(([1, 1, 1], [1])), growth_of(([0, 0, 0, 1], [1, -1])), growth_of(([1], [1, 1])), growth_of(([1], [1, -2, 1])), growth_of(([1], [1, -1, -1])), circles(([1], [1, 0, -1])), rest_of(([1], [1, -2, 0, 1]))]
+[('ends', 2), ('repeats', 3, 1), ('repeats', 0, 2), ('power', 1), ('beyond',), [(1, 1), (2, 1)], [1, -1, -1]]
+'''
+
 
 class ExampleTest(unittest.TestCase):
-    """The examples of the document's interface, word for word."""
+    """The examples of the document's interface, as far as they have landed, word for word."""
 
     def check(self, text):
         told = []
@@ -22,6 +39,12 @@ class ExampleTest(unittest.TestCase):
 
     def test_sheets_and_forms(self):
         self.check(FORMS)
+
+    def test_alike_and_memory(self):
+        self.check(ALIKE)
+
+    def test_growth(self):
+        self.check(GROWTH)
 
 
 if __name__ == "__main__":

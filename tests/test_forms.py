@@ -5,18 +5,12 @@ import unittest
 from feedcolumns.errors import InvalidForm, InvalidName, InvalidNumber
 from feedcolumns.forms import column_form, first_powers, reduced, shortest_formula
 from feedcolumns.sheets import Sheet
-from helpers import common_degree, product, random_sheets, solvable, started, walked
+from helpers import Case, common_degree, product, random_sheets, solvable, started, walked
 
 ROWS = 30
 
 
-class FormTest(unittest.TestCase):
-    def raises(self, kind, value, call, *args, **named):
-        with self.assertRaises(kind) as told:
-            call(*args, **named)
-        self.assertIs(type(told.exception), kind)
-        self.assertEqual(told.exception.value, value)
-
+class FormTest(Case):
     def check_is_form(self, form):
         self.assertIs(type(form), tuple)
         top, bottom = form

@@ -6,7 +6,7 @@ from unittest import mock
 
 from feedcolumns.errors import Circular, InvalidFormula, InvalidName, InvalidNumber
 from feedcolumns.sheets import Sheet
-from helpers import random_sheets, walked
+from helpers import Case, random_sheets, walked
 
 SUMS = [("s", [(1, "s", 1), (1, "a", 0)]), ("d", [(1, "s", 0), (-1, "s", 3)])]
 
@@ -22,13 +22,7 @@ def shortest_ring(columns):
     return None
 
 
-class SheetTest(unittest.TestCase):
-    def raises(self, kind, value, call, *args, **named):
-        with self.assertRaises(kind) as told:
-            call(*args, **named)
-        self.assertIs(type(told.exception), kind)
-        self.assertEqual(told.exception.value, value)
-
+class SheetTest(Case):
     def test_what_was_passed_is_returned_in_its_sequence(self):
         formula = [(2, "s", 1), (1, "b", 0), (2, "s", 1), (-9, "z", 4), (3, "z", 2)]
         sheet = Sheet("cba", [("z", []), ("s", formula), ("m", [(1, "c", 0)])])
