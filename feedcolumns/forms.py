@@ -11,9 +11,17 @@ def column_form(sheet, name, source):
     # "in" of a string would take "" and "ab" for inputs
     if source not in list(sheet.inputs):
         raise InvalidName(source)
-    names = [other for other in sheet.names if other != name] + [name]
-    top, bottom = _last_unknown([_equation(sheet, column, names, source) for column in names])
+    top, bottom = column_fraction(sheet, name, source)
     return reduced(top, bottom)
+
+
+def column_fraction(sheet, name, source):
+    """Return the top and the bottom of a column and an input as determinants, common factors left in.
+
+    The bottom begins with 1, and both grow evenly with each coefficient of a formula.
+    """
+    names = [other for other in sheet.names if other != name] + [name]
+    return last_unknown([_equation(sheet, column, names, source) for column in names])
 
 
 def _equation(sheet, column, names, source):
@@ -30,10 +38,14 @@ def _equation(sheet, column, names, source):
     return [parts[other] for other in names] + [given]
 
 
-def _last_unknown(rows):
-    """Return the top and the bottom of the last unknown of these equations."""
-    # the first polynomial of the first row is always a determinant that begins with 1, as no
-    # ring stands within one row: so it is not 0, and a division by it leaves nothing
+def last_unknown(rows):
+    """Return the top and the bottom of the last unknown of these equations, each a determinant.
+
+    The rows hold the polynomials of the unknowns and behind them what they add up to; the unknowns
+    must be such that within one row of cells none of them depends on itself.
+    """
+    # so the first polynomial of the first row is always a determinant that begins with 1: it is
+    # not 0, and a division by it leaves nothing
     before = [1]
     while len(rows) > 1:
         first, *above = rows[0]

@@ -2,7 +2,7 @@
 
 from math import lcm
 
-from feedcolumns.polynomials import quotient, times
+from feedcolumns.polynomials import quotient, share
 
 
 def growth_of(form):
@@ -48,21 +48,14 @@ def _divided(bottom):
     rest = list(bottom)
     for number, divisor in _root_polynomials(len(bottom) - 1):
         count = 0
-        share = _share(rest, divisor)
-        while share is not None:
+        left = share(rest, divisor)
+        while left is not None:
             count += 1
-            rest = share
-            share = _share(rest, divisor)
+            rest = left
+            left = share(rest, divisor)
         if count > 0:
             found.append((number, count))
     return found, rest
-
-
-def _share(whole, divisor):
-    """Return a polynomial divided by another one, None if that leaves something."""
-    share = quotient(whole, divisor)
-    # the quotient drops what is left, so only the product tells whether there is anything
-    return share if times(share, divisor) == whole else None
 
 
 def _root_polynomials(degree):

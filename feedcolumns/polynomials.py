@@ -44,6 +44,13 @@ def quotient(first, second):
     return numbers
 
 
+def share(whole, divisor):
+    """Return a polynomial divided by another one, None if that leaves something or makes fractions."""
+    found = quotient(whole, divisor)
+    # the quotient drops what is left, so only the product tells whether there is anything
+    return found if times(found, divisor) == whole else None
+
+
 def primitive(numbers):
     """Return the polynomial without its integer factor, its first number that is not 0 made positive."""
     factor = 0

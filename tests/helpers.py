@@ -1,5 +1,7 @@
 """What the tests work out in ways of their own, to compare the package with."""
 
+import copy
+import itertools
 import random
 import unittest
 from fractions import Fraction
@@ -12,6 +14,47 @@ class Case(unittest.TestCase):
             call(*args, **named)
         self.assertIs(type(told.exception), kind)
         self.assertEqual(told.exception.value, value)
+
+    def check_is_form(self, form):
+        self.assertIs(type(form), tuple)
+        top, bottom = form
+        for numbers in form:
+            self.assertIs(type(numbers), list)
+            self.assertTrue(all(type(number) is int for number in numbers))
+            self.assertTrue(not numbers or numbers[-1] != 0)
+        self.assertEqual(bottom[0], 1)
+        if top:
+            self.assertEqual(common_degree(top, bottom), 0)
+        else:
+            self.assertEqual(bottom, [1])
+
+    def check_form(self, form, powers):
+        """Check that this is the form with these first powers, of which there are enough to tell it."""
+        self.check_is_form(form)
+        self.assertLess(len(form[0]) + len(form[1]), len(powers))
+        self.assertEqual(powers_of(form, len(powers)), powers)
+
+    def check_new(self, call, *args):
+        """Check that a call leaves what is passed as it was, and returns new lists, also within lists, each time."""
+        before = copy.deepcopy(args)
+        told = call(*args)
+        wanted = copy.deepcopy(told)
+        for _ in range(2):
+            self.assertEqual(args, before)
+            spoil(told)
+            self.assertEqual(args, before)
+            told = call(*args)
+            self.assertEqual(told, wanted)
+
+
+def spoil(value):
+    """Change every list within a value."""
+    if isinstance(value, (list, tuple)):
+        for part in value:
+            spoil(part)
+    if isinstance(value, list):
+        value.append("spoilt")
+        value.reverse()
 
 
 def walked(inputs, columns, name, entries, number):
@@ -69,18 +112,99 @@ def product(first, second):
     return numbers
 
 
-def common_degree(first, second):
-    """The degree of the greatest common factor of two polynomials, by Euclid with fractions."""
-    first, second = [Fraction(x) for x in first], [Fraction(x) for x in second]
+def powers_of(form, number):
+    """The first powers of a form, by long division."""
+    top, bottom = form
+    rest = (list(top) + [0] * number)[:number]
+    for row in range(number):
+        for back, factor in enumerate(bottom[:number - row]):
+            if back > 0:
+                rest[row + back] -= factor * rest[row]
+    return rest
+
+
+def convolved(first, second, number):
+    """The first numbers of the product of two series."""
+    return [sum(first[k] * second[row - k] for k in range(row + 1) if k < len(first) and row - k < len(second))
+            for row in range(number)]
+
+
+FACTORS = [[1, -1], [1, 1], [1, -2], [1, 3], [1, 0, 1], [1, -1, -1], [1, 1, 1], [1, 0, 0, -5]]
+
+
+def random_form(chance, most_factors=3):
+    """A form, the numbers of which are products of few factors, so that it has some in common with others."""
+    if chance.randint(0, 19) == 0:
+        return [], [1]
+    while True:
+        top = [0] * chance.choice([0, 0, 1, 3]) + [chance.choice([-6, -2, -1, 1, 1, 1, 5])]
+        bottom = [1]
+        for _ in range(chance.randint(0, most_factors)):
+            bottom = product(bottom, chance.choice(FACTORS))
+        for _ in range(chance.randint(0, most_factors)):
+            top = product(top, chance.choice(FACTORS + [[2, 1], [3, -1, 4]]))
+        if common_degree(top, bottom) == 0:
+            return top, bottom
+
+
+def great_form(chance, length=17):
+    """A form with so many great numbers in both polynomials."""
+    while True:
+        top = [chance.randint(-10 ** 30, 10 ** 30) for _ in range(length)]
+        bottom = [1] + [chance.randint(-10 ** 30, 10 ** 30) for _ in range(length - 1)]
+        if common_degree(top, bottom) == 0:
+            return top, bottom
+
+
+def formula_with(name, source, form):
+    """A formula of a column by itself and what it is fed with, that has a form."""
+    top, bottom = form
+    return ([(number, source, back) for back, number in enumerate(top) if number != 0]
+            + [(-number, name, back) for back, number in enumerate(bottom) if back > 0 and number != 0])
+
+
+def divisor(first, second, zero):
+    """The greatest common factor of two polynomials over a field, by Euclid."""
     while second:
         while len(first) >= len(second):
             factor = first[-1] / second[-1]
             shift = len(first) - len(second)
-            first = [x - (factor * second[k - shift] if k >= shift else 0) for k, x in enumerate(first)]
-            while first and first[-1] == 0:
+            first = [x - (factor * second[k - shift] if k >= shift else zero) for k, x in enumerate(first)]
+            while first and first[-1] == zero:
                 first.pop()
         first, second = second, first
-    return len(first) - 1
+    return first
+
+
+class Remainder:
+    """A number modulo a great prime."""
+
+    PRIME = 2 ** 61 - 1
+
+    def __init__(self, number):
+        self.number = number % self.PRIME
+
+    def __sub__(self, other):
+        return Remainder(self.number - other.number)
+
+    def __mul__(self, other):
+        return Remainder(self.number * other.number)
+
+    def __truediv__(self, other):
+        return Remainder(self.number * pow(other.number, -1, self.PRIME))
+
+    def __eq__(self, other):
+        return self.number == other.number
+
+
+def common_degree(first, second):
+    """The degree of the greatest common factor of two polynomials, by Euclid."""
+    # a common factor is one of the remainders, too, if its last number does not vanish: this is
+    # faster than fractions, and nearly always it settles that there is none
+    if first and second and first[-1] % Remainder.PRIME and second[-1] % Remainder.PRIME:
+        if len(divisor([Remainder(x) for x in first], [Remainder(x) for x in second], Remainder(0))) == 1:
+            return 0
+    return len(divisor([Fraction(x) for x in first], [Fraction(x) for x in second], Fraction(0))) - 1
 
 
 def solvable(rows, wanted):

@@ -12,6 +12,9 @@ INTERFACE = {
     "alike": ["are_alike", "parting", "classes", "relations"],
     "memory": ["felt", "bound", "reaching"],
     "growth": ["growth_of", "circles", "rest_of"],
+    "reading": ["delay_of", "reader", "read_back"],
+    "joins": ["behind", "beside", "multiple", "led_back", "loop_for", "stepped"],
+    "endings": ["last_row", "resting", "told_form", "fitting"],
 }
 
 

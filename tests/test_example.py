@@ -19,11 +19,27 @@ ALIKE = '''
 [True, (3, 'a', 1), None, [['d'], ['e'], ['r'], ['s']], [[1, 0, 1, -1]], [[0, 1, 2]], [None], 15, [[5, 5, 5]], None]
 '''
 
-# of the example of growth and reading, what concerns growth
 GROWTH = '''
 >>> from feedcolumns.growth import circles, growth_of, rest_of
->>> [growth_of(([1, 1, 1], [1])), growth_of(([0, 0, 0, 1], [1, -1])), growth_of(([1], [1, 1])), growth_of(([1], [1, -2, 1])), growth_of(([1], [1, -1, -1])), circles(([1], [1, 0, -1])), rest_of(([1], [1, -2, 0, 1]))]
-[('ends', 2), ('repeats', 3, 1), ('repeats', 0, 2), ('power', 1), ('beyond',), [(1, 1), (2, 1)], [1, -1, -1]]
+>>> from feedcolumns.reading import delay_of, read_back, reader
+>>> [growth_of(([1, 1, 1], [1])), growth_of(([0, 0, 0, 1], [1, -1])), growth_of(([1], [1, 1])), growth_of(([1], [1, -2, 1])), growth_of(([1], [1, -1, -1])), circles(([1], [1, 0, -1])), rest_of(([1], [1, -2, 0, 1])), reader(([1, 2], [1])), reader(([0, 2], [1])), delay_of(([0, 2], [1])), reader(([0, 0, 1], [1, 1])), read_back(([0, 2], [1]), [0, 3, 4]), read_back(([0, 2], [1]), [1, 3])]
+[('ends', 2), ('repeats', 3, 1), ('repeats', 0, 2), ('power', 1), ('beyond',), [(1, 1), (2, 1)], [1, -1, -1], ([1], [1, 2]), None, 1, ([1, 1], [1]), [(3, 2), (2, 1)], None]
+'''
+
+# of the example of joins and far, what concerns joins
+JOINS = '''
+>>> from feedcolumns.joins import behind, beside, led_back, loop_for, multiple, stepped
+>>> pairs = ([1], [1, -1, -1])
+>>> [behind(([1], [1, -1]), ([1, -1], [1])), beside(([1], [1, -1]), ([1], [1, 1])), multiple(pairs, 0), led_back(([1], [1]), 1), loop_for(([1], [1, -1]), ([1, 1], [1])), stepped(pairs, 2, 0), stepped(pairs, 2, 1)]
+[([1], [1]), ([2], [1, 0, -1]), ([], [1]), ([1], [1, -1]), ([0, 0, -1], [1, 1]), ([1, -1], [1, -3, 1]), ([1], [1, -3, 1])]
+'''
+
+ENDINGS = '''
+>>> from feedcolumns.endings import fitting, last_row, resting, told_form
+>>> from feedcolumns.sheets import Sheet
+>>> sheet = Sheet("a", [("s", [(1, "s", 1), (1, "a", 0)]), ("e", [(-1, "e", 1), (1, "a", 0)]), ("t", [(1, "t", 1), (1, "s", 0)])])
+>>> [last_row(([1], [1, -1, -1]), [1, -1, -1]), last_row(([1], [1, -1, -1]), [1]), resting(sheet), told_form([1, 2, 3, 4]), told_form([0, 1]), fitting(sheet, "s", 0, ([1], [1, 2])), fitting(sheet, "s", 1, ([3], [1, -1])), fitting(sheet, "s", 1, ([1], [1, 1]))]
+[0, None, [1, -1, -1, 1], ([1], [1, -2, 1]), None, -2, 3, None]
 '''
 
 
@@ -43,8 +59,14 @@ class ExampleTest(unittest.TestCase):
     def test_alike_and_memory(self):
         self.check(ALIKE)
 
-    def test_growth(self):
+    def test_growth_and_reading(self):
         self.check(GROWTH)
+
+    def test_joins(self):
+        self.check(JOINS)
+
+    def test_endings(self):
+        self.check(ENDINGS)
 
 
 if __name__ == "__main__":

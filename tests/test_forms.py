@@ -11,19 +11,6 @@ ROWS = 30
 
 
 class FormTest(Case):
-    def check_is_form(self, form):
-        self.assertIs(type(form), tuple)
-        top, bottom = form
-        for numbers in form:
-            self.assertIs(type(numbers), list)
-            self.assertTrue(all(type(number) is int for number in numbers))
-            self.assertTrue(not numbers or numbers[-1] != 0)
-        self.assertEqual(bottom[0], 1)
-        if top:
-            self.assertEqual(common_degree(top, bottom), 0)
-        else:
-            self.assertEqual(bottom, [1])
-
     def check_behind_a_single_1(self, inputs, columns):
         sheet = Sheet(inputs, columns)
         for name, _ in columns:

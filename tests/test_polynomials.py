@@ -1,7 +1,8 @@
 import random
 import unittest
 
-from feedcolumns.polynomials import common_factor, common_multiple, minus, plus, primitive, quotient, times, trimmed
+from feedcolumns.polynomials import (
+    common_factor, common_multiple, minus, plus, primitive, quotient, share, times, trimmed)
 from helpers import common_degree, product
 
 
@@ -31,6 +32,19 @@ class PolynomialsTest(unittest.TestCase):
             self.assertEqual(times(first, second), product(first, second))
             self.assertEqual(quotient(times(first, second), second), first)
         self.assertEqual(quotient([], [1, 2]), [])
+
+    def test_shares(self):
+        chance = random.Random(23)
+        for _ in range(100):
+            first, second = random_polynomial(chance, 6), random_polynomial(chance, 6)
+            whole = times(first, second)
+            self.assertEqual(share(whole, second), first)
+            if len(second) > 1 and second[0] != 0:
+                for place in range(len(whole)):
+                    self.assertIsNone(share(plus(whole, [0] * place + [1]), second))
+        self.assertEqual(share([], [1, 2]), [])
+        self.assertIsNone(share([1], [1, 2]))
+        self.assertIsNone(share([1, 2], [2, 4]))
 
     def test_primitive(self):
         self.assertEqual(primitive([]), [])
@@ -69,7 +83,7 @@ class PolynomialsTest(unittest.TestCase):
 
     def test_arguments_are_unchanged(self):
         first, second = [2, 4, 2], [1, 1]
-        for call in [plus, minus, times, quotient, common_factor]:
+        for call in [plus, minus, times, quotient, share, common_factor]:
             call(first, second)
         self.assertEqual((primitive(first), trimmed(first)), ([1, 2, 1], [2, 4, 2]))
         self.assertEqual((first, second), ([2, 4, 2], [1, 1]))
