@@ -101,6 +101,20 @@ def random_sheets(seed, number, most_columns=4, most_back=4, most_tuples=6):
         yield inputs, columns
 
 
+def shortest_ring(columns):
+    """The ring that Circular tells, by trying all strings of columns."""
+    refers = {(name, other) for name, formula in columns for _, other, back in formula if back == 0}
+    names = sorted(name for name, _ in columns)
+    # what refers to nothing that is left stands in no ring
+    while loose := [name for name in names if not any((name, other) in refers for other in names)]:
+        names = [name for name in names if name not in loose]
+    for length in range(1, len(names) + 1):
+        for ring in itertools.permutations(names, length):
+            if all((one, ring[(k + 1) % length]) in refers for k, one in enumerate(ring)):
+                return "".join(ring)
+    return None
+
+
 def product(first, second):
     """The product of two polynomials."""
     numbers = [0] * max(0, len(first) + len(second) - 1)

@@ -15,6 +15,10 @@ INTERFACE = {
     "reading": ["delay_of", "reader", "read_back"],
     "joins": ["behind", "beside", "multiple", "led_back", "loop_for", "stepped"],
     "endings": ["last_row", "resting", "told_form", "fitting"],
+    "far": ["power_at", "total_at", "cell_at"],
+    "desks": ["Desk", "ShortDesk"],
+    "texts": ["show_sheet", "show_form"],
+    "readings": ["read_sheet", "read_form"],
 }
 
 

@@ -26,12 +26,13 @@ GROWTH = '''
 [('ends', 2), ('repeats', 3, 1), ('repeats', 0, 2), ('power', 1), ('beyond',), [(1, 1), (2, 1)], [1, -1, -1], ([1], [1, 2]), None, 1, ([1, 1], [1]), [(3, 2), (2, 1)], None]
 '''
 
-# of the example of joins and far, what concerns joins
 JOINS = '''
+>>> from feedcolumns.far import cell_at, power_at, total_at
 >>> from feedcolumns.joins import behind, beside, led_back, loop_for, multiple, stepped
+>>> from feedcolumns.sheets import Sheet
 >>> pairs = ([1], [1, -1, -1])
->>> [behind(([1], [1, -1]), ([1, -1], [1])), beside(([1], [1, -1]), ([1], [1, 1])), multiple(pairs, 0), led_back(([1], [1]), 1), loop_for(([1], [1, -1]), ([1, 1], [1])), stepped(pairs, 2, 0), stepped(pairs, 2, 1)]
-[([1], [1]), ([2], [1, 0, -1]), ([], [1]), ([1], [1, -1]), ([0, 0, -1], [1, 1]), ([1, -1], [1, -3, 1]), ([1], [1, -3, 1])]
+>>> [behind(([1], [1, -1]), ([1, -1], [1])), beside(([1], [1, -1]), ([1], [1, 1])), multiple(pairs, 0), led_back(([1], [1]), 1), loop_for(([1], [1, -1]), ([1, 1], [1])), stepped(pairs, 2, 0), stepped(pairs, 2, 1), power_at(pairs, 6, 10), total_at(pairs, 6, 10), cell_at(Sheet("a", [("s", [(1, "s", 1), (1, "a", 0)])]), "s", [[(10 ** 20, 2)]], 10 ** 30, 1000)]
+[([1], [1]), ([2], [1, 0, -1]), ([], [1]), ([1], [1, -1]), ([0, 0, -1], [1, 1]), ([1, -1], [1, -3, 1]), ([1], [1, -3, 1]), 3, 3, 0]
 '''
 
 ENDINGS = '''
@@ -42,9 +43,25 @@ ENDINGS = '''
 [0, None, [1, -1, -1, 1], ([1], [1, -2, 1]), None, -2, 3, None]
 '''
 
+DESKS = '''
+>>> from feedcolumns.desks import Desk, ShortDesk
+>>> from feedcolumns.sheets import Sheet
+>>> desk = Desk(Sheet("a", [("s", [(1, "s", 1), (1, "a", 0)])]))
+>>> [desk.added("t", [(1, "t", 1), (1, "s", 0)]), desk.sheet.names, desk.put("s", [(1, "a", 2)]), len(desk), desk.story()[1], desk.undo(), desk.sheet.formula_of("s"), ShortDesk(desk.sheet, 2).sheet == desk.sheet]
+[None, ['s', 't'], None, 2, ('put', 's', [(1, 'a', 2)]), None, [(1, 's', 1), (1, 'a', 0)], True]
+'''
+
+TEXTS = '''
+>>> from feedcolumns.readings import read_form, read_sheet
+>>> from feedcolumns.sheets import Sheet
+>>> from feedcolumns.texts import show_form, show_sheet
+>>> [show_sheet(Sheet("ab", [("s", [(1, "s", 1), (-2, "a", 0)]), ("z", [])])), show_form(([1, 1, 1], [1, -1])), show_form(([], [1])), read_sheet('a; s = 1s1 1a0').formula_of("s"), read_form('0 2 / 1')]
+['ab; s = 1s1 -2a0; z =', '1 1 1 / 1 -1', '0 / 1', [(1, 's', 1), (1, 'a', 0)], ([0, 2], [1])]
+'''
+
 
 class ExampleTest(unittest.TestCase):
-    """The examples of the document's interface, as far as they have landed, word for word."""
+    """The examples of the document's interface, word for word."""
 
     def check(self, text):
         told = []
@@ -62,11 +79,17 @@ class ExampleTest(unittest.TestCase):
     def test_growth_and_reading(self):
         self.check(GROWTH)
 
-    def test_joins(self):
+    def test_joins_and_far(self):
         self.check(JOINS)
 
     def test_endings(self):
         self.check(ENDINGS)
+
+    def test_desks(self):
+        self.check(DESKS)
+
+    def test_texts_and_readings(self):
+        self.check(TEXTS)
 
 
 if __name__ == "__main__":

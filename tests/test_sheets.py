@@ -1,25 +1,13 @@
 import copy
-import itertools
 import random
 import unittest
 from unittest import mock
 
 from feedcolumns.errors import Circular, InvalidFormula, InvalidName, InvalidNumber
 from feedcolumns.sheets import Sheet
-from helpers import Case, random_sheets, walked
+from helpers import Case, random_sheets, shortest_ring, walked
 
 SUMS = [("s", [(1, "s", 1), (1, "a", 0)]), ("d", [(1, "s", 0), (-1, "s", 3)])]
-
-
-def shortest_ring(columns):
-    """The ring that Circular tells, by trying all strings of columns."""
-    refers = {(name, other) for name, formula in columns for _, other, back in formula if back == 0}
-    names = sorted(name for name, _ in columns)
-    for length in range(1, len(names) + 1):
-        for ring in itertools.permutations(names, length):
-            if all((one, ring[(k + 1) % length]) in refers for k, one in enumerate(ring)):
-                return "".join(ring)
-    return None
 
 
 class SheetTest(Case):
