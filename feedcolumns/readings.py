@@ -10,8 +10,9 @@ MOST_DIGITS = 40
 
 def read_sheet(text):
     """Return the sheet with a text."""
-    inputs, *parts = text.split("; ")
-    columns = [_column(part) for part in parts]
+    parts = text.split("; ")
+    inputs = parts[0]
+    columns = [_column(part) for part in parts[1:]]
     if not inputs or not columns or None in columns:
         raise Unreadable(text)
     try:
@@ -22,11 +23,11 @@ def read_sheet(text):
 
 def _column(text):
     """Return the name and the formula with a text, None if none has it."""
-    name, *words = text.split(" ")
-    formula = [_term(word) for word in words[1:]]
-    if words[:1] != ["="] or None in formula:
+    words = text.split(" ")
+    formula = [_term(word) for word in words[2:]]
+    if words[1:2] != ["="] or None in formula:
         return None
-    return name, formula
+    return words[0], formula
 
 
 def _term(text):
